@@ -76,6 +76,14 @@ func TestRunWithTheCollector(t *testing.T) {
 	}
 }
 
+// The example of README.md.
+func TestExample(t *testing.T) {
+	events, outcome := Run("=a5\noa\nx", api.Config{Spans: 4, Start: 50, Assist: 1}, []byte{0, 0, 0, 0, 0, 0})
+	if got := trace.Text(events); got != "out 0 5\nexit 0\nend 1 0\n" || outcome != api.Ended {
+		t.Errorf("README.md: %q, %d", got, outcome)
+	}
+}
+
 func TestNoSuchConfig(t *testing.T) {
 	for _, c := range []api.Config{{}, {Spans: 1, Start: 50}, {Spans: 129, Start: 50}, {Spans: 8}, {Spans: 8, Start: 101}, {Spans: 8, Start: 50, Assist: -1}, {Spans: 8, Start: 50, Assist: 9}} {
 		l, outcome := Run("x", c, picks(2))

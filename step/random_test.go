@@ -19,16 +19,16 @@ func randomText(r *rand.Rand) string {
 	lines := []string{"ma" + strconv.Itoa(r.Intn(4)), "mb" + strconv.Itoa(r.Intn(4)), "=c1", "bec"}
 	n := 8 + r.Intn(20)
 	to := func() string { return strconv.Itoa(r.Intn(n)) }
-	any, ch := "abcdef", "abab"
+	into, ch := "abcdef", "abab"
 	if r.Intn(4) > 0 {
-		any, ch = "cdf", "ab"
+		into, ch = "cdf", "ab"
 	}
 	for len(lines) < n {
 		switch r.Intn(24) {
 		case 0:
 			lines = append(lines, "="+reg("cd")+to())
 		case 1:
-			lines = append(lines, "<"+reg(any)+reg("abcdef"))
+			lines = append(lines, "<"+reg(into)+reg("abcdef"))
 		case 2:
 			lines = append(lines, "+"+reg("cd")+reg("cd"))
 		case 3:
@@ -36,7 +36,7 @@ func randomText(r *rand.Rand) string {
 		case 4, 5:
 			lines = append(lines, "s"+reg(ch)+reg("abcdef"))
 		case 6, 7:
-			lines = append(lines, "r"+reg(ch)+reg(any))
+			lines = append(lines, "r"+reg(ch)+reg(into))
 		case 8:
 			if r.Intn(4) == 0 {
 				lines = append(lines, "c"+reg(ch))
@@ -59,17 +59,17 @@ func randomText(r *rand.Rand) string {
 		case 16:
 			lines = append(lines, "be"+reg("abcdef"), "fe"+strconv.Itoa(r.Intn(10)))
 		case 17:
-			lines = append(lines, "ue"+reg(any))
+			lines = append(lines, "ue"+reg(into))
 		case 18:
 			lines = append(lines, "we"+reg("abcdef"))
 		case 19:
 			lines = append(lines, reg("p")+strconv.Itoa(r.Intn(4))+reg("abcdef"))
 		case 20:
-			lines = append(lines, "q"+reg(any)+strconv.Itoa(r.Intn(4)))
+			lines = append(lines, "q"+reg(into)+strconv.Itoa(r.Intn(4)))
 		case 21, 22:
 			s, cases := "S", 1+r.Intn(3)
 			for range cases {
-				s += reg("sr") + reg(ch+"f") + reg(any) + to()
+				s += reg("sr") + reg(ch+"f") + reg(into) + to()
 			}
 			if cases < 3 && r.Intn(3) == 0 {
 				s += "e" + to()
