@@ -128,9 +128,9 @@ func TestObjectsAreNewMemory(t *testing.T) {
 
 func TestNilAndEmpty(t *testing.T) {
 	var a *Arena
-	_, alloc := a.Alloc(api.KBox, 2)
-	_, load := a.Load(0, 0)
-	if alloc != api.ErrNil || load != api.ErrNil || a.Store(0, 0, 0) != api.ErrNil || a.Free(0) != api.ErrNil {
+	at, alloc := a.Alloc(api.KBox, 2)
+	w, load := a.Load(0, 0)
+	if at != 0 || w != 0 || alloc != api.ErrNil || load != api.ErrNil || a.Store(0, 0, 0) != api.ErrNil || a.Free(0) != api.ErrNil {
 		t.Error("P7.1: nil answers no ErrNil")
 	}
 	for _, a := range []*Arena{nil, {}} {

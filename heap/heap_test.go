@@ -162,6 +162,19 @@ func TestColourOfNewOnes(t *testing.T) {
 	}
 }
 
+// What stood at a place before plays no part.
+func TestColourWhereOneWas(t *testing.T) {
+	h := made(t, 2)
+	h.Begin(nil)
+	at := alloc(t, h, api.KBox, 2)
+	h.Arena().Free(at)
+	wantColours(t, h, map[int]int{at: api.White})
+	finish(t, h)
+	if again := alloc(t, h, api.KBox, 2); again != at || h.Colour(again) != api.White {
+		t.Errorf("P9.1: a new one at %d is %d", again, h.Colour(again))
+	}
+}
+
 func TestStoreShades(t *testing.T) {
 	h := made(t, 2)
 	a, b, c := alloc(t, h, api.KBox, 2), alloc(t, h, api.KBox, 2), alloc(t, h, api.KBox, 2)

@@ -145,6 +145,8 @@ func TestWhoWaits(t *testing.T) {
 		{"sender first", "ma0 g5 rab ob x =b7 sab oa", "0 0 1 1 0 0 1", "o0:7 o1:0*"},
 		// Two senders behind a full one: what they send comes in order.
 		{"senders move up", "ma1 g8 g8 rab ob rab ob x =b7 sab ob", "0 0 0 1 2 1 2 0 0 0 0 1 2", "o0:7 o0:7 o1:7 o2:7"},
+		{"what is sent comes in order", "ma1 =c1 g10 =c2 g10 rad od rad od rad sac", "0 0 0 0 0 1 2 0 0 0 0 0", "o0:1 o0:2"},
+		{"room is filled again at once", "ma1 sab g6 rac lad od sab", "0 0 0 1 0 0 0 1", "o0:1 x1"},
 		// All who take go on with 0 when it is shut.
 		{"shut wakes takers", "ma0 g5 g5 ca x =b7 rab ob", "0 0 0 1 1 1 1 0 1 2", "o1:0 o2:0"},
 		{"shut where somebody sends", "ma0 g3 ca sab", "0 0 1 0", "e0:3"},
@@ -183,6 +185,11 @@ func TestChooseWaitsAtAll(t *testing.T) {
 	text := "ma0 mb0 =d5 g8 Srae6sbd7 x oe od rbf of =f6 saf of"
 	if r := Run(program(t, text), entries(t, picks(12))); show(r.Events) != "o1:5 o0:5 e-1:2" {
 		t.Errorf("P23.2: a choice waits at all: %q", show(r.Events))
+	}
+	// No channel at all is passed over, and waits for nobody.
+	text = "mb0 g5 Srac5rbd3 od x =e4 sbe"
+	if r := Run(program(t, text), entries(t, "0 0 0 0 0 1")); show(r.Events) != "o0:4" {
+		t.Errorf("P23.2: a choice waits at all that have a channel: %q", show(r.Events))
 	}
 	// What it sends is what it was when it began to wait.
 	text = "ma0 =d5 g5 Ssad4rae4 x rab ob"

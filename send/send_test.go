@@ -112,6 +112,14 @@ func TestWoken(t *testing.T) {
 	p.wants(value.Ptr(other), 56, -1, api.Going)
 }
 
+func TestFromOneToAnother(t *testing.T) {
+	p := made(t)
+	ch := p.channel(0)
+	g := p.taker(ch)
+	p.wants(value.Ptr(ch), 50, g, api.Ended)
+	p.wants(value.Ptr(ch), 52, -1, api.Going)
+}
+
 func TestClosed(t *testing.T) {
 	p := made(t)
 	ch := p.channel(2)
@@ -120,6 +128,12 @@ func TestClosed(t *testing.T) {
 	c.Closed = 1
 	view.PutChan(p.h, ch, c)
 	p.wants(value.Ptr(ch), 2, -1, api.SendClosed)
+	narrow := p.channel(0)
+	c, _ = view.Chan(p.h, narrow)
+	c.Closed = 1
+	view.PutChan(p.h, narrow, c)
+	p.wants(value.Ptr(narrow), 2, -1, api.SendClosed)
+	c, _ = view.Chan(p.h, ch)
 	if after, _ := view.Chan(p.h, ch); after != c || len(ring.All(p.h, ch)) != 0 {
 		t.Errorf("P15.1: something was done: %+v", after)
 	}

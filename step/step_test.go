@@ -104,7 +104,7 @@ func TestProgramIsNotKept(t *testing.T) {
 func TestExit(t *testing.T) {
 	w := made(t, "x", roomy())
 	wantEvents(t, "exit", w.Exec(0, 0), api.Event{Kind: api.EExit}, api.Event{Kind: api.EEnd, Value: api.Ended})
-	if w.Outcome() != api.Ended || w.Queue().Len() != 0 || gor(t, w, 0).Status != api.Done {
+	if w.Outcome() != api.Ended || w.Queue().Len() != 0 || gor(t, w, 0) != (api.Gor{Status: api.Done, Pc: 1, Sudogs: -1}) {
 		t.Errorf("P24.1: behind the exit: %d, %v", w.Outcome(), w.Queue().All())
 	}
 	w.Queue().Add(0)
@@ -293,6 +293,30 @@ func TestFire(t *testing.T) {
 	wantEvents(t, "a closed channel", w.Fire(9))
 	if w.Outcome() != api.Going || w.Waiting() != 0 {
 		t.Errorf("P24.2: a closed channel: %d", w.Outcome())
+	}
+}
+
+func TestMeasures(t *testing.T) {
+	w := made(t, "=b5 lab ob kaa oa mc2 lcb ob scb lcb ob kcb ob", roomy())
+	var l []api.Event
+	for range 13 {
+		l = append(l, exec(w, 0)...)
+	}
+	var want []api.Event
+	for _, v := range []int{0, 0, 0, 1, 2} {
+		want = append(want, api.Event{Kind: api.EOut, Value: v})
+	}
+	wantEvents(t, "len and cap", l, want...)
+}
+
+func TestTimerOfNoTicks(t *testing.T) {
+	w := made(t, "ta0 lab ob", roomy())
+	exec(w, 0)
+	w.Fire(0)
+	exec(w, 0)
+	wantEvents(t, "a tick of 0", exec(w, 0), api.Event{Kind: api.EOut, Value: 1})
+	if w.Waiting() != 0 {
+		t.Errorf("P24.2: %d timers", w.Waiting())
 	}
 }
 

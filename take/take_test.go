@@ -132,6 +132,20 @@ func TestFromOneToAnother(t *testing.T) {
 	p.wants(value.Ptr(ch), 0, -1, api.Going)
 }
 
+// One that waits to send has no register; where one was laid by hand, 0 comes into it.
+func TestSenderIsWokenWithNought(t *testing.T) {
+	p := made(t)
+	ch := p.channel(0)
+	g, s := p.alloc(api.KGor, 10), p.alloc(api.KSudog, 7)
+	view.PutGor(p.h, g, api.Gor{Reg: [api.Regs]int{8, 8}, Sudogs: -1})
+	view.PutSudog(p.h, s, api.Sudog{Gor: g, Chan: ch, Value: 6, Next: -1, Reg: 1, More: -1})
+	list.Push(p.h, ch, true, s)
+	p.wants(value.Ptr(ch), 6, g, api.Ended)
+	if v, _ := view.Gor(p.h, g); v.Reg != [api.Regs]int{8, 0} {
+		t.Errorf("P16.1: who was woken: %+v", v)
+	}
+}
+
 func TestClosed(t *testing.T) {
 	p := made(t)
 	ch, empty := p.channel(2, 10, 12), p.channel(0)
