@@ -1,6 +1,7 @@
 package trace
 
 import (
+	"math"
 	"slices"
 	"testing"
 
@@ -24,12 +25,31 @@ func all() []api.Event {
 }
 
 func TestText(t *testing.T) {
-	want := "out 3 40\nout 12 *\nreclaim 7\nout -1 -9223372036854775808\nfinal 8\nexit 2\n\nreclaim 1\n\nend 2 -1\n"
+	want := "out 3 40\nout 12 *\nreclaim 7\nout -1 -9223372036854775808\nfinal 8\nexit 2\nreclaim 1\nend 2 -1\n"
 	if got := Text(all()); got != want {
 		t.Errorf("P26.1: Text: %q; want %q", got, want)
 	}
 	if got := Text(nil); got != "" {
 		t.Errorf("P26.1: Text of nothing: %q", got)
+	}
+}
+
+func TestTextOfNoKind(t *testing.T) {
+	out := api.Event{Kind: api.EOut, Gor: 2, Value: 3}
+	for _, kind := range []int{0, 6, -1, math.MaxInt, math.MinInt} {
+		none := api.Event{Kind: kind, Gor: 1, Value: 4, Ref: true}
+		if got := Text([]api.Event{none}); got != "" {
+			t.Errorf("P26.1: Text of kind %d alone: %q", kind, got)
+		}
+		if got := Text([]api.Event{none, out, none, none, out, none}); got != "out 2 3\nout 2 3\n" {
+			t.Errorf("P26.1: Text with kind %d between: %q", kind, got)
+		}
+		if got := Visible([]api.Event{none}); !slices.Equal(got, []api.Event{none}) {
+			t.Errorf("P26.1: Visible of kind %d: %+v", kind, got)
+		}
+		if got := Reclaimed([]api.Event{none}); len(got) != 0 {
+			t.Errorf("P26.1: Reclaimed of kind %d: %v", kind, got)
+		}
 	}
 }
 
